@@ -1,0 +1,1 @@
+"""Fewserve: short lists that answer every later question as the whole stream does."""

@@ -1,0 +1,57 @@
+"""The names and arguments of the interface, module by module."""
+
+FUNCTIONS = {
+    "residues": {
+        "inverse": "(number)",
+        "dot": "(first, second)",
+        "combine": "(coefficients, rows, width)",
+        "independent_indexes": "(rows)",
+        "independent": "(rows)",
+        "relation": "(rows)",
+    },
+    "lots": {
+        "choices": "(count, size)",
+        "all_asks": "(count, most)",
+        "is_lot": "(lot, count)",
+        "apart": "(lot, other)",
+        "joined": "(lot, other)",
+        "without": "(lot, other)",
+        "rank": "(item)",
+        "ranked": "(items)",
+        "format_item": "(item)",
+        "parse_item": "(line)",
+        "format_items": "(items)",
+        "parse_items": "(text)",
+    },
+    "schemes": {
+        "minors": "(rows, columns)",
+        "kept_list": "(scheme, items)",
+        "first_fit": "(scheme, items, ask)",
+    },
+}
+
+# The methods that stand in the class itself; None for those whose arguments are not compared.
+CLASSES = {
+    "tables": {
+        "Table": {
+            "__init__": "(self, rows, columns)",
+            "points": None,
+            "plain": None,
+            "row": "(self, thing)",
+            "rows_of": "(self, things)",
+            "free": "(self, things)",
+            "show": "(self)",
+        },
+    },
+    "schemes": {
+        "Scheme": {
+            "__init__": "(self, table, size)",
+            "check": "(self, lot)",
+            "check_ask": "(self, ask)",
+            "row": "(self, lot)",
+            "corow": "(self, ask)",
+            "pairing": "(self, lot, ask)",
+            "fits": "(self, lot, ask)",
+        },
+    },
+}
