@@ -28,6 +28,24 @@ FUNCTIONS = {
         "kept_list": "(scheme, items)",
         "first_fit": "(scheme, items, ask)",
     },
+    "dets": {
+        "signed_orders": "(count)",
+        "det_by_orders": "(rows)",
+        "determinant": "(rows)",
+        "difference_product": "(numbers)",
+    },
+    "fills": {
+        "fill": "(table, things)",
+        "whole_determinant": "(table, things, columns=())",
+    },
+    "growing": {
+        "grow": "(items, thing, worth)",
+        "grow_all": "(items, others)",
+        "staged_lists": "(table, stages)",
+    },
+    "kinds": {
+        "direct_sum": "(tables)",
+    },
 }
 
 # The methods that stand in the class itself; None for those whose arguments are not compared.
@@ -52,6 +70,32 @@ CLASSES = {
             "corow": "(self, ask)",
             "pairing": "(self, lot, ask)",
             "fits": "(self, lot, ask)",
+        },
+    },
+    "wedges": {
+        "Wedge": {
+            "__init__": "(self, columns, size, parts)",
+            "of_rows": None,
+            "__xor__": "(self, other)",
+            "__add__": "(self, other)",
+            "__sub__": "(self, other)",
+            "__neg__": "(self)",
+            "__mul__": "(self, other)",
+            "__eq__": "(self, other)",
+            "__bool__": "(self)",
+            "__iter__": "(self)",
+            "part": "(self, chosen)",
+            "whole": None,
+        },
+    },
+    "kinds": {
+        "Kinds": {
+            "__init__": "(self, tables, sizes)",
+            "check": "(self, lot)",
+            "check_ask": "(self, ask)",
+            "row": "(self, lot)",
+            "corow": "(self, ask)",
+            "shares": "(self, things)",
         },
     },
 }

@@ -14,8 +14,10 @@ TREES = {path.name: ast.parse(path.read_text("utf-8")) for path in FILES}
 BUILTINS = set(dir(__builtins__) if not isinstance(__builtins__, dict) else __builtins__)
 # What the rules allow of Python's builtins.
 ALLOWED = set(
-    "len range enumerate zip min max sum abs sorted reversed int str bool list tuple dict set isinstance ord"
-    " repr any all divmod iter next ValueError super property classmethod staticmethod NotImplemented".split()
+    "len range enumerate zip min max sum abs sorted reversed int str bool list tuple dict set frozenset isinstance"
+    " ord repr any all divmod iter next map super property classmethod staticmethod NotImplemented Exception"
+    " ValueError TypeError KeyError IndexError LookupError ZeroDivisionError ArithmeticError OverflowError"
+    " RuntimeError NotImplementedError AttributeError StopIteration".split()
 )
 # What is iterated where it stands.
 ITERATED = {"range", "zip", "enumerate", "reversed"}
@@ -66,13 +68,16 @@ class Form(unittest.TestCase):
         for name, node in walk(ast.FunctionDef):
             self.assertLessEqual(node.end_lineno - node.lineno + 1, 40, (name, node.name))
 
-    def test_statements_and_expressions(self):
-        barred = (
-            ast.Global, ast.AsyncFunctionDef, ast.Await, ast.Div, ast.MatMult, ast.Set, ast.GeneratorExp,
-            ast.Lambda, ast.Import, ast.AnnAssign, ast.TryStar,
-        )
-        for name, node in walk(barred):
-            self.fail((name, getattr(node, "lineno", "division")))
+    def test_barred_statements_and_expressions(self):
+        barred = (ast.AsyncFunctionDef, ast.Await, ast.Div, ast.MatMult, ast.TryStar)
+        self.assertEqual([(name, ast.dump(node)) for name, node in walk(barred)], [])
+
+    def test_lists_where_a_class_compares(self):
+        # As Wedge has __eq__, these take a list and no generator expression.
+        for name, node in walk(ast.Call):
+            if isinstance(node.func, ast.Name) and node.func.id in ("any", "all", "min", "max", "sum", "sorted"):
+                for argument in node.args:
+                    self.assertNotIsInstance(argument, ast.GeneratorExp, (name, node.lineno))
 
     def test_builtins(self):
         for name, node in walk(ast.Name):

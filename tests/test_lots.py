@@ -95,6 +95,7 @@ class Ranks(slow.Case):
 VALID = {
     "-5: 0 3 11": (-5, (0, 3, 11)),
     "7:": (7, ()),
+    "-1:": (-1, ()),
     "0:": (0, ()),
     "0: 0": (0, (0,)),
     "1000000: 11": (1000000, (11,)),
@@ -120,6 +121,7 @@ class WrittenForms(slow.Case):
         self.assertEqual(format_item((1000001, (0,))), "1000001: 0")
         self.assertEqual(format_item((-(10 ** 64), ())), "-1" + "0" * 64 + ":")
         self.assertEqual(format_item((10 ** 64 - 1, ())), "9" * 64 + ":")
+        self.assertEqual(format_item((int("123456789" * 50), (0, 1))), "123456789" * 50 + ": 0 1")
         self.assertEqual(format_item((123 * 10 ** 6000 + 45, (1,))), "123" + "0" * 5998 + "45: 1")
 
     def test_spoilt_lines(self):
