@@ -2,8 +2,8 @@
 
 from fewserve.errors import BadAsk, BadLot, BadTable
 from fewserve.lots import is_lot
-from fewserve.residues import PRIME
-from fewserve.schemes import Scheme
+from fewserve.residues import PRIME, product_of
+from fewserve.schemes import Scheme, check_full
 from fewserve.tables import Table
 
 
@@ -66,10 +66,7 @@ class Kinds(Scheme):
 
     def corow(self, ask):
         """Return the opposite row of a full ask."""
-        self.check_ask(ask)
-        # Each share has at most its kind's spare things, so only a full ask has them all.
-        if len(ask) != self.spare:
-            raise BadAsk(ask)
+        check_full(self, ask)
         shares = self.shares(ask)
         return products([scheme.corow(share) for scheme, share in zip(self._schemes, shares)])
 
@@ -80,11 +77,3 @@ def products(rows):
     for row in rows:
         found = [product * number % PRIME for product in found for number in row]
     return found
-
-
-def product_of(numbers):
-    """Return the product of the integers."""
-    product = 1
-    for number in numbers:
-        product = product * number
-    return product

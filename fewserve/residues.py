@@ -27,6 +27,14 @@ def combine(coefficients, rows, width):
     return [dot(coefficients, [row[at] for row in rows]) for at in range(width)]
 
 
+def product_of(numbers):
+    """Return the product of the integers."""
+    product = 1
+    for number in numbers:
+        product = product * number
+    return product
+
+
 def unit_row(column, columns):
     """Return the row with 1 in the column and 0 in all others."""
     return [1 if at == column else 0 for at in range(columns)]

@@ -59,9 +59,7 @@ class Scheme:
 
     def corow(self, ask):
         """Return the opposite row of a full ask."""
-        self.check_ask(ask)
-        if len(ask) != self.spare:
-            raise BadAsk(ask)
+        check_full(self, ask)
         columns = self.table.columns
         parts = minors(self.table.rows_of(ask), columns)
         part_at = dict(zip(choices(columns, self.spare), parts))
@@ -82,6 +80,32 @@ class Scheme:
         return self.table.free(lot + ask)
 
 
+def check_full(scheme, ask):
+    """Raise BadAsk if the tuple is not a full ask of the scheme."""
+    scheme.check_ask(ask)
+    # In a scheme of kinds no kind has more than its share, so only a full ask has so many things.
+    if len(ask) != scheme.spare:
+        raise BadAsk(ask)
+
+
+def has_lot(scheme, lot):
+    """Return True if the tuple is a lot of the scheme."""
+    try:
+        scheme.check(lot)
+    except BadLot:
+        return False
+    return True
+
+
+def has_ask(scheme, ask):
+    """Return True if the tuple is an ask of the scheme."""
+    try:
+        scheme.check_ask(ask)
+    except BadAsk:
+        return False
+    return True
+
+
 def check_lots(scheme, items):
     """Raise BadLot for the first item whose lot is not a lot of the scheme."""
     for _, lot in items:
@@ -100,7 +124,12 @@ def first_fit(scheme, items, ask):
     """Return the item that ranks first among those whose lot fits the ask, or None."""
     scheme.check_ask(ask)
     check_lots(scheme, items)
-    for item in ranked(items):
-        if scheme.fits(item[1], ask):
+    return first_free(scheme.table, ranked(items), ask)
+
+
+def first_free(table, listed, ask):
+    """Return the first item of the list whose things and those of the ask are free, or None."""
+    for item in listed:
+        if table.free(item[1] + ask):
             return item
     return None

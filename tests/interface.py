@@ -46,6 +46,21 @@ FUNCTIONS = {
     "kinds": {
         "direct_sum": "(tables)",
     },
+    "roots": {
+        "exponents": "(size, most)",
+        "root_polynomial": "(numbers)",
+    },
+    "judging": {
+        "judge_paper": "(scheme, item, paper)",
+        "judge_deeds": "(scheme, deeds)",
+    },
+    "accounts": {
+        "settle": "(scheme, deeds)",
+    },
+    "clashes": {
+        "clash": "(scheme, lot, ask)",
+        "judge_clash": "(scheme, lot, ask, numbers)",
+    },
 }
 
 # The methods that stand in the class itself; None for those whose arguments are not compared.
@@ -96,6 +111,51 @@ CLASSES = {
             "row": "(self, lot)",
             "corow": "(self, ask)",
             "shares": "(self, things)",
+        },
+    },
+    "roots": {
+        "Roots": {
+            "__init__": "(self, numbers, size, spare)",
+            "row": "(self, lot)",
+            "corow": "(self, ask)",
+        },
+    },
+    "spans": {
+        "Span": {
+            "__init__": "(self, width, rows=())",
+            "rows": None,
+            "coefficients": "(self, row)",
+            "add": "(self, row)",
+            "replace": "(self, index, row)",
+            "__len__": "(self)",
+            "__contains__": None,
+        },
+    },
+    "keeping": {
+        "Keeper": {
+            "__init__": "(self, scheme, items=())",
+            "take": "(self, worth, lot)",
+            "take_all": "(self, *items)",
+            "__iter__": "(self)",
+            "__len__": "(self)",
+            "__contains__": None,
+            "__or__": "(self, other)",
+            "bound": None,
+            "room": None,
+            "first": "(self, ask)",
+            "copy": "(self)",
+            "trial": "(self, items)",
+        },
+    },
+    "accounts": {
+        "Account": {
+            "__init__": "(self, scheme)",
+            "take": "(self, worth, lot)",
+            "kept": "(self)",
+            "known": "(self)",
+            "paper": "(self, item)",
+            "papers": "(self)",
+            "deeds": "(self)",
         },
     },
 }
