@@ -61,6 +61,28 @@ FUNCTIONS = {
         "clash": "(scheme, lot, ask)",
         "judge_clash": "(scheme, lot, ask, numbers)",
     },
+    "asking": {
+        "profile": "(scheme, items)",
+        "answer": "(account, ask)",
+        "judge_answer": "(scheme, items, ask, told)",
+    },
+    "least": {
+        "least_list": "(scheme, items)",
+        "witnesses": "(scheme, items)",
+        "serves": "(scheme, few, items)",
+    },
+    "pairs": {
+        "is_skew": "(scheme, pairs)",
+        "skew_matrix": "(scheme, pairs)",
+        "all_pairs": "(size, spare)",
+        "beyond": "(size, spare)",
+    },
+    "makers": {
+        "web_table": "(places, edges, *, root=0)",
+        "is_forest": "(places, edges, chosen)",
+        "dearest_forest": "(places, edges, worths)",
+        "box_table": "(boxes, columns)",
+    },
 }
 
 # The methods that stand in the class itself; None for those whose arguments are not compared.
@@ -156,6 +178,34 @@ CLASSES = {
             "paper": "(self, item)",
             "papers": "(self)",
             "deeds": "(self)",
+        },
+    },
+    "asking": {
+        "Asker": {
+            "__init__": "(self, scheme, items)",
+            "__call__": "(self, ask)",
+            "asked": None,
+        },
+    },
+    "boards": {
+        "Board": {
+            "__init__": "(self, scheme, items=())",
+            "take": "(self, worth, lot)",
+            "first": "(self, ask)",
+            "asks_of": "(self, item)",
+            "__iter__": "(self)",
+            "__len__": "(self)",
+            "__or__": "(self, other)",
+        },
+    },
+    "makers": {
+        "Components": {
+            "__init__": "(self, places)",
+            "connect": "(self, u, v)",
+            "component": "(self, place)",
+            "__iter__": "(self)",
+            "__len__": "(self)",
+            "__contains__": None,
         },
     },
 }
