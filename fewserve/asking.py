@@ -3,7 +3,7 @@
 from fewserve.clashes import clash, judge_clash
 from fewserve.judging import is_paper_over
 from fewserve.keeping import papers_over
-from fewserve.lots import all_asks, rank
+from fewserve.lots import choices, rank
 from fewserve.schemes import check_lots, first_fit, first_free, has_ask, has_lot, kept_list
 
 
@@ -11,9 +11,11 @@ def profile(scheme, items):
     """Return each ask of the scheme with its first fit among the items, or None."""
     # The kept list has the same first fits, and it is short.
     listed = kept_list(scheme, items)
+    # An operator of boards comes here, and none may reach a generator such as all_asks.
     return [
         (ask, first_free(scheme.table, listed, ask))
-        for ask in all_asks(scheme.table.things, scheme.spare)
+        for size in range(scheme.spare + 1)
+        for ask in choices(scheme.table.things, size)
         if has_ask(scheme, ask)
     ]
 

@@ -36,6 +36,48 @@ def parents(tree):
     return {child: node for node in ast.walk(tree) for child in ast.iter_child_nodes(node)}
 
 
+def is_property(node):
+    return any(isinstance(sign, ast.Name) and sign.id == "property" for sign in node.decorator_list)
+
+
+def operators():
+    """Yield the file name and the method for all operators, properties and their kin."""
+    for name, node in walk(ast.ClassDef):
+        for method in node.body:
+            if isinstance(method, ast.FunctionDef):
+                signed = method.name.startswith("__") and method.name not in ("__init__", "__call__")
+                if signed or is_property(method):
+                    yield name, method
+
+
+def called_functions(node):
+    """Yield what the calls in the function may run: everything of the package that has the name."""
+    names = set()
+    for call in ast.walk(node):
+        if isinstance(call, ast.Call):
+            names.add(call.func.id if isinstance(call.func, ast.Name) else getattr(call.func, "attr", None))
+    for name, tree in TREES.items():
+        for found in ast.walk(tree):
+            if isinstance(found, ast.FunctionDef) and found.name in names:
+                yield name, found
+            if isinstance(found, ast.ClassDef) and found.name in names:
+                for method in found.body:
+                    if isinstance(method, ast.FunctionDef) and method.name == "__init__":
+                        yield name, method
+
+
+def reached_by_operators():
+    """Return the places and nodes of all functions that an operator or a property may run."""
+    waiting = list(operators())
+    found = {}
+    while waiting:
+        name, node = waiting.pop()
+        if (name, node.lineno) not in found:
+            found[name, node.lineno] = node
+            waiting += called_functions(node)
+    return found
+
+
 class Form(unittest.TestCase):
     def test_files(self):
         for path in FILES:
@@ -109,6 +151,23 @@ class Form(unittest.TestCase):
                         or isinstance(place.func, ast.Attribute) and place.func.attr == "join"
                     )
                     self.assertTrue(looped or taken, (name, node.lineno))
+
+    def test_operators_reach_no_generators_and_set_no_attributes(self):
+        found = reached_by_operators()
+        self.assertGreater(len(found), 30)
+        for where, node in found.items():
+            for part in ast.walk(node):
+                self.assertNotIsInstance(part, (ast.Yield, ast.YieldFrom, ast.Nonlocal, ast.Delete), where)
+                if isinstance(part, ast.Attribute) and isinstance(part.ctx, ast.Store):
+                    self.assertEqual(node.name, "__init__", where)
+                if isinstance(part, ast.Subscript) and isinstance(part.ctx, ast.Store):
+                    self.assertIsInstance(part.value, ast.Name, where)
+
+    def test_generators_have_names_of_their_own(self):
+        made = [node for _, node in walk(ast.FunctionDef) if any(isinstance(n, ast.Yield) for n in ast.walk(node))]
+        names = [node.name for _, node in walk(ast.FunctionDef)]
+        for node in made:
+            self.assertEqual(names.count(node.name), 1, node.name)
 
     def test_identity_is_asked_of_none_only(self):
         for name, node in walk(ast.Compare):
