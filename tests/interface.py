@@ -83,6 +83,24 @@ FUNCTIONS = {
         "dearest_forest": "(places, edges, worths)",
         "box_table": "(boxes, columns)",
     },
+    "contracting": {
+        "contract": "(table, lot)",
+        "narrowed_list": "(table, size, items, known)",
+        "cut_columns": "(table, columns)",
+    },
+    "logs": {
+        "format_line": "(items)",
+        "parse_line": "(line)",
+        "whole_part": "(text)",
+        "whole_lines": "(text)",
+        "recover": "(scheme, text)",
+        "compacted": "(scheme, text)",
+    },
+    "ways": {
+        "way_lists": "(web, table, count, *, start=None)",
+        "trace": "(web, lists, place, item)",
+        "best_way": "(web, table, count, *, end=None)",
+    },
 }
 
 # The methods that stand in the class itself; None for those whose arguments are not compared.
@@ -206,6 +224,38 @@ CLASSES = {
             "__iter__": "(self)",
             "__len__": "(self)",
             "__contains__": None,
+        },
+    },
+    "houses": {
+        "Houses": {
+            "__init__": "(self, scheme, count)",
+            "__len__": "(self)",
+            "letters": None,
+            "take": "(self, house, worth, lot)",
+            "send": "(self, house)",
+            "deliver": "(self, house, letter)",
+            "settle": "(self, house)",
+            "compact": "(self, house)",
+            "crash": "(self, house, lost=0)",
+            "rise": "(self, house)",
+            "exchange": "(self)",
+            "kept": "(self, house)",
+            "answer": "(self, house, ask)",
+            "log": "(self, house)",
+            "is_up": "(self, house)",
+        },
+    },
+    "webs": {
+        "Web": {
+            "__init__": "(self, places, steps)",
+            "steps": None,
+            "__invert__": "(self)",
+            "after": "(self, place)",
+            "before": "(self, place)",
+            "worth_of": "(self, u, v)",
+            "is_way": "(self, way)",
+            "way_worth": "(self, way)",
+            "all_ways": "(self, count)",
         },
     },
 }
