@@ -4,6 +4,8 @@ from fewserve.errors import BadText
 
 MOST_THINGS = 12
 MOST_WORTH = 1000000
+# As many digits as the greatest worth has.
+WORTH_DIGITS = 7
 
 
 def choices(count, size):
@@ -93,8 +95,8 @@ def parse_item(line):
     """Return the item that a valid line writes."""
     head, _, tail = line.partition(":")
     words = tail[1:].split(" ") if tail else []
-    worth = read_number(head)
-    lot = tuple([read_number(word) for word in words])
+    worth = read_number(head, WORTH_DIGITS)
+    lot = tuple([read_number(word, WORTH_DIGITS) for word in words])
     if worth is None or None in lot:
         raise BadText(line)
     # Only one line writes an item, so comparing refuses every other spelling.
@@ -103,10 +105,11 @@ def parse_item(line):
     return (worth, lot)
 
 
-def read_number(word):
-    """Return the integer that the word may write, or None if it is no number or too long."""
-    digits = word[1:] if word.startswith("-") else word
-    if not digits.isdecimal() or len(digits) > len(str(MOST_WORTH)):
+def read_number(word, digits):
+    """Return the integer that the word writes with at most so many digits, or None."""
+    tail = word[1:] if word.startswith("-") else word
+    # The length comes first: Python refuses to read integers of some thousand digits.
+    if len(tail) > digits or not tail.isdecimal() or str(int(word)) != word:
         return None
     return int(word)
 

@@ -101,6 +101,31 @@ FUNCTIONS = {
         "trace": "(web, lists, place, item)",
         "best_way": "(web, table, count, *, end=None)",
     },
+    "rounds": {
+        "best_round": "(web, table, count)",
+    },
+    "waybooks": {
+        "way_book": "(web, table, count)",
+        "judge_way_book": "(web, table, count, book)",
+    },
+    "packs": {
+        "pack_lists": "(table, size, items, count)",
+        "best_packing": "(table, size, items, count)",
+        "packings": "(table, items, count)",
+        "packing_within": "(table, items, count)",
+    },
+    "meetings": {
+        "meets": "(items, things)",
+        "minimal_meetings": "(items, most)",
+        "cheapest_meeting": "(items, costs, most)",
+        "meeting_kernel": "(items, things, size, most)",
+    },
+    "deskwords": {
+        "format_paper": "(paper)",
+        "parse_paper": "(text)",
+        "answer_lines": "(told)",
+        "read_answer": "(lines)",
+    },
 }
 
 # The methods that stand in the class itself; None for those whose arguments are not compared.
@@ -256,6 +281,15 @@ CLASSES = {
             "is_way": "(self, way)",
             "way_worth": "(self, way)",
             "all_ways": "(self, count)",
+        },
+    },
+    "desk": {
+        "Desk": {
+            "__init__": "(self, scheme)",
+            "run": "(self, line)",
+            "run_text": "(self, text)",
+            "journal": None,
+            "again": None,
         },
     },
 }
