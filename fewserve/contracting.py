@@ -8,7 +8,7 @@ from fewserve.tables import Table
 
 
 def reduced_form(rows):
-    """Return the rows of the reduced form of independent rows, each with its leading column."""
+    """Return the rows of the reduced form of independent rows, each behind its leading column."""
     basis = []
     for row in rows:
         rest = reduced(row, basis)

@@ -43,9 +43,8 @@ def tell_why(account, rest):
 
 def tell_judge(account, rest):
     """Tell whether an answer with its certificate is right for an ask."""
-    things, mark, lines = rest.partition("; ")
-    if not mark:
-        raise BadText(rest)
+    # If nothing is there to be judged, the one line is empty and not valid.
+    things, _, lines = rest.partition("; ")
     ask = read_things(things)
     told = read_answer(lines.split("; "))
     return "right" if judge_answer(account.scheme, account.known(), ask, told) else "wrong"

@@ -38,11 +38,11 @@ def read_item(name, line):
 
 def answer_lines(told):
     """Return the lines that write an answer with its certificate."""
-    first, clashes, papers = told
+    first, clashes, proofs = told
     return (
         ["answer " + format_first(first)]
         + [f"clash {format_numbers(numbers)} of {format_item(item)}" for item, numbers in clashes]
-        + [f"paper {format_paper(paper)} of {format_item(item)}" for item, paper in papers]
+        + [f"paper {format_paper(paper)} of {format_item(item)}" for item, paper in proofs]
     )
 
 

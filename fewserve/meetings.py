@@ -1,6 +1,5 @@
 """Hitting sets: things that meet the lots of all items."""
 
-from fewserve.errors import BadSize
 from fewserve.lots import all_asks, apart, without
 from fewserve.schemes import Scheme, kept_list
 from fewserve.tables import Table
@@ -38,13 +37,11 @@ def cheapest_meeting(items, costs, most):
     ]
     if not found:
         return None
-    cost, _, things = min(found)
-    return (cost, things)
+    cost, _, best = min(found)
+    return (cost, best)
 
 
 def meeting_kernel(items, things, size, most):
     """Return the kept list that the same tuples of at most that many things meet."""
-    table = Table.plain(things, size + most)
-    if size < 0 or most < 0:
-        raise BadSize(size)
-    return kept_list(Scheme(table, size), items)
+    # The scheme refuses the size if it is less than 0, or if it leaves a spare number less than 0.
+    return kept_list(Scheme(Table.plain(things, size + most), size), items)

@@ -61,6 +61,6 @@ def covers(scheme, pair, items):
     return all([has_paper(scheme, listed, item, papers_of.get(item, [])) for item in others])
 
 
-def has_paper(scheme, listed, item, entries_lists):
+def has_paper(scheme, listed, item, proofs):
     """Return True if one of the lists of entries is a paper for the item over the list."""
-    return any([is_paper_over(scheme, listed, item, entries) for entries in entries_lists])
+    return any([is_paper_over(scheme, listed, item, entries) for entries in proofs])

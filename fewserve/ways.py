@@ -28,7 +28,10 @@ def way_lists(web, table, count, *, start=None):
 def grown_items(web, stages, start=None):
     """Return for each place the items that are grown into it in the stage after the given ones."""
     if not stages:
-        return [[(0, (place,))] if start in (None, place) else [] for place in range(web.places)]
+        return [
+            [(0, (place,))] if start is None or place == start else []
+            for place in range(web.places)
+        ]
     return [
         grown_into(web, stages[-1], place) if start is None or place > start else []
         for place in range(web.places)

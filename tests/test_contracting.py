@@ -192,6 +192,7 @@ class Cutting(slow.Case):
     def test_wrong(self):
         for columns, cut in ((3, 4), (3, -1), (0, 1), (0, -1), (6, 7), (3, 10 ** 30), (3, -10 ** 30)):
             self.refuse(BadTable, {}, cut_columns, Table.plain(3, columns), cut)
+            self.refuse(BadTable, {}, cut_columns, Table([], columns), cut)
         self.assertEqual(BadTable.__bases__, (ServeError,))
 
     def test_kept_lists(self):

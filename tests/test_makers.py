@@ -130,6 +130,7 @@ class Webs(slow.Case):
             self.refuse(BadTable, {}, dearest_forest, places, edges, [1] * len(edges))
         for root in (-1, 3, 10 ** 30):
             self.refuse(BadTable, {}, web_table, 3, [(0, 1)], root=root)
+            self.refuse(BadTable, {}, web_table, 3, [], root=root)
         with self.assertRaises(TypeError):
             web_table(3, [(0, 1)], 1)
 
